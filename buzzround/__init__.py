@@ -1,0 +1,1 @@
+"""Counting on in a ring, by kinds of numbers and by rules."""

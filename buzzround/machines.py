@@ -104,8 +104,7 @@ def lots_of_states(steps, marks, most):
     lots = list(lots_by_marks(marks))
     members = list(members_of(lots))
     backs = [steps_back(steps, figure) for figure in range(len(steps[0]))]
-    sizes = [len(lot) for lot in members]
-    waiting = [lot for lot in range(len(sizes)) if lot != sizes.index(max(sizes))]
+    waiting = all_but_a_widest(members)
     while waiting:
         targets = members[waiting.pop()]
         for back in backs:
@@ -140,6 +139,12 @@ def members_of(lots):
     for state, lot in enumerate(lots):
         members[lot].append(state)
     return members
+
+
+def all_but_a_widest(members):
+    """All lots but one of those with the most states."""
+    ascending = sorted([(len(members[lot]), lot) for lot in range(len(members))])
+    return [lot for _, lot in ascending[:-1]]
 
 
 def steps_back(steps, figure):

@@ -48,10 +48,90 @@ class Language(unittest.TestCase):
                 self.assertNotIn("%", node.value, path.name)
 
     def nodes(self, sort):
-        for path in FILES:
-            for node in ast.walk(ast.parse(path.read_text(encoding="utf-8"))):
+        for tree in trees(FILES):
+            for node in ast.walk(tree):
                 if isinstance(node, sort):
-                    yield path, node
+                    yield tree.path, node
+
+
+class Operators(unittest.TestCase):
+    """What operators, __eq__ and properties run calls nothing that an object may hold."""
+
+    def test_the_package(self):
+        found = list(trees(FILES))
+        self.assertEqual(calls_of_what_is_held(found), [])
+        self.assertLessEqual({"__and__", "__or__", "__xor__", "__eq__", "lots_of_states"}, run_by_operators(found))
+
+    def test_a_call_by_the_name_of_an_attribute_is_found(self):
+        told = (
+            "def far(rows):\n    return rows.index(3)\n"
+            "class Box:\n    def __init__(self, at):\n        self.index, self.seen = at, {}\n"
+            "    def near(self):\n        return far(self.seen)\n"
+        )
+        for name, calls in (
+            ("__and__", ["far: index"]), ("__contains__", ["far: index"]), ("__eq__", ["far: index"]), ("near_by", []),
+        ):
+            text = told + f"    def {name}(self, other):\n        return other.near()\n"
+            self.assertEqual(calls_of_what_is_held([ast.parse(text)]), calls, name)
+        text = told + "    @property\n    def wide(self):\n        return Box(self.seen.keys()).near()\n"
+        self.assertEqual(calls_of_what_is_held([ast.parse(text)]), ["far: index"])
+
+
+def trees(paths):
+    for path in paths:
+        tree = ast.parse(path.read_text(encoding="utf-8"))
+        tree.path = path
+        yield tree
+
+
+def functions_by_name(found):
+    """The functions and methods of each name; a class stands for what makes its objects."""
+    named = {}
+    for tree in found:
+        for node in ast.walk(tree):
+            if isinstance(node, ast.FunctionDef):
+                named.setdefault(node.name, []).append(node)
+            if isinstance(node, ast.ClassDef):
+                made = [one for one in node.body if isinstance(one, ast.FunctionDef) and one.name == "__init__"]
+                named.setdefault(node.name, []).extend(made)
+    return named
+
+
+def names_of_attributes(found):
+    """The names under which objects hold something."""
+    return {
+        node.attr for tree in found for node in ast.walk(tree)
+        if isinstance(node, ast.Attribute) and isinstance(node.ctx, ast.Store)
+    }
+
+
+def calls_in(node):
+    """What is called in a function: tuples of a name and of whether it is the name of a method."""
+    for one in ast.walk(node):
+        if isinstance(one, ast.Call) and isinstance(one.func, ast.Name):
+            yield one.func.id, False
+        if isinstance(one, ast.Call) and isinstance(one.func, ast.Attribute):
+            yield one.func.attr, True
+
+
+def run_by_operators(found):
+    """The names of all functions that operators, __eq__, __len__ and properties may run."""
+    named = functions_by_name(found)
+    waiting = [name for name in named if name[:2] == "__" and name != "__init__"]
+    for nodes in list(named.values()):
+        waiting.extend([node.name for node in nodes if node.decorator_list])
+    for name in waiting:
+        for node in named[name]:
+            waiting.extend({called for called, _ in calls_in(node) if called in named} - set(waiting))
+    return set(waiting)
+
+
+def calls_of_what_is_held(found):
+    named, held = functions_by_name(found), names_of_attributes(found)
+    return [
+        f"{name}: {called}" for name in sorted(run_by_operators(found)) for node in named[name]
+        for called, is_method in calls_in(node) if is_method and called in held
+    ]
 
 
 if __name__ == "__main__":

@@ -1,9 +1,24 @@
 """Checks of what is passed to the functions of the package."""
 
-from buzzround.errors import NoBase, NoDivisor, NoFigure, NoNumber, NoPlace, NoRest
+from buzzround.errors import (
+    NoBase,
+    NoCounts,
+    NoDivisor,
+    NoFigure,
+    NoLater,
+    NoLook,
+    NoNumber,
+    NoPeople,
+    NoPerson,
+    NoPlace,
+    NoRest,
+)
 
 # No argument is a number beyond this one.
 GREATEST = 10 ** 40
+MOST_PEOPLE = 100
+# Guesses ask for more people, and for numbers that can be counted on to.
+MOST_GUESSED = 10000
 LETTERS = "abcdefghijklmnopqrstuvwxyz"
 
 
@@ -52,3 +67,57 @@ def check_number(value):
 def check_place(value):
     if not is_between(value, 1, GREATEST):
         raise NoPlace("a place is an integer from 1 to 10 ** 40")
+
+
+def check_times(value):
+    if not is_between(value, 1, GREATEST):
+        raise NoPlace("times are an integer from 1 to 10 ** 40")
+
+
+def check_people(value):
+    if not is_between(value, 1, MOST_PEOPLE):
+        raise NoPeople(f"a number of people is an integer from 1 to {MOST_PEOPLE}")
+
+
+def check_person(value, people):
+    if not is_between(value, 0, people - 1):
+        raise NoPerson("a person is an integer from 0 to one less than the number of people")
+
+
+def check_later(value, number):
+    if value <= number:
+        raise NoLater("the later number is greater than the other one")
+
+
+def check_most(value):
+    if not is_between(value, 1, MOST_GUESSED):
+        raise NoPeople(f"the greatest number of people is an integer from 1 to {MOST_GUESSED}")
+
+
+def check_look_number(value):
+    if not is_between(value, 1, MOST_GUESSED):
+        raise NoNumber(f"a number to look at is an integer from 1 to {MOST_GUESSED}")
+
+
+def check_looks(value):
+    if not isinstance(value, list):
+        raise NoLook(0)
+    for at, look in enumerate(value):
+        if not is_look(look):
+            raise NoLook(at)
+
+
+def is_look(value):
+    """Whether a value is a tuple of a number and of somebody who says it."""
+    if not isinstance(value, tuple) or len(value) != 2:
+        return False
+    return is_between(value[0], 1, GREATEST) and is_whole(value[1]) and value[1] >= 0
+
+
+def check_counts(value):
+    if not isinstance(value, list) or not 2 <= len(value) <= 10:
+        raise NoCounts("counts are a list of two to ten numbers of people")
+    if not all([is_between(people, 1, MOST_PEOPLE) for people in value]):
+        raise NoCounts(f"each count is an integer from 1 to {MOST_PEOPLE}")
+    if len(set(value)) < len(value):
+        raise NoCounts("the counts are unlike")

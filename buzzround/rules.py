@@ -1,9 +1,11 @@
 """Rules: rows of a kind and an effect."""
 
 from buzzround.checks import check_base, check_number, is_between, is_word
+from buzzround.courses import Courses, chained, course_at
 from buzzround.errors import NoRow, TooWide
 from buzzround.kinds import Kind, every
 from buzzround.machines import WIDEST, least_machine, side_by_side, state_behind
+from buzzround.rings import Ring
 
 MOST_ROWS = 6
 
@@ -53,6 +55,7 @@ class Rules:
 
     Its attributes steps and marks are its least machine, in order, as
     buzzround.machines tells; the mark is the tuple of the indexes of the rows that hold.
+    What happens over numbers side by side is kept as far as it was asked for.
     """
 
     def __init__(self, base, rows=()):
@@ -61,6 +64,8 @@ class Rules:
         # Tuples of its own, since nothing that is passed is kept; kinds do not change.
         self._rows = tuple([(kind, tuple([*effect])) for kind, effect in rows])
         self.steps, self.marks = _machine_of(base, rows)
+        self._courses = Courses(self.steps, [self.course_of(mark) for mark in self.marks])
+        self._ring = None
 
     def __eq__(self, other):
         if not isinstance(other, Rules):
@@ -81,3 +86,25 @@ class Rules:
         """The indexes of the rows whose kinds a number is in."""
         check_number(number)
         return list(self.marks[state_behind(self.steps, number)])
+
+    def effects_at(self, number):
+        """The effects of the rows whose kinds a number is in."""
+        return [self._rows[at][1] for at in self.marks[state_behind(self.steps, number)]]
+
+    def course_of(self, mark):
+        """What happens at a number with a mark, nothing for the mark of the beginning."""
+        if mark is None:
+            return chained([])
+        return course_at([self._rows[at][1] for at in mark])
+
+    def course(self, number):
+        """What happens over the numbers from 1 to this one, nothing if it is 0."""
+        return self._courses.up_to(number)
+
+    def ring_of(self, many):
+        """The ring of so many people who count on by these rules."""
+        # Of the rings just the last one is kept: they are great, and mostly one is asked for again and again.
+        if self._ring is None or self._ring.many != many:
+            courses = [self.course_of(mark) for mark in self.marks]
+            self._ring = Ring(self.steps, courses, [0] + [1] * self.size(), many)
+        return self._ring

@@ -78,3 +78,22 @@ def just_200():
 def ones(lengths):
     """The numbers that are written in the base 2 by ones alone, as many as all of these divide."""
     return all_of([~bears(2, 0)] + [figure_sum(2, by, 0) for by in lengths])
+
+
+def check_refusals(case, function, valid, refused):
+    """Each wrong value of each argument is refused, and of several wrong arguments the first one is told.
+
+    valid has values for all arguments, refused the error and the wrong values of those that are
+    checked, in the order in which they are.
+    """
+    names = list(refused)
+    for at, name in enumerate(names):
+        error, values = refused[name]
+        for value in values:
+            with case.subTest(function=function.__name__, name=name, value=value):
+                case.assertRaises(error, function, **{**valid, name: value})
+                for later in names[at + 1:]:
+                    for wrong in refused[later][1][::3]:
+                        case.assertRaises(error, function, **{**valid, name: value, later: wrong})
+                wrong = {later: refused[later][1][0] for later in names[at + 1:]}
+                case.assertRaises(error, function, **{**valid, name: value, **wrong})

@@ -3,17 +3,45 @@
 import inspect
 import unittest
 
-from buzzround import kinds, rules
+from buzzround import always, guesses, kinds, places, rules, tallies
 from buzzround.kinds import Kind
 from buzzround.rules import Rules
 
 FUNCTIONS = {
-    "multiple": "(base, number)",
-    "rest": "(base, number, rest)",
-    "bears": "(base, figure)",
-    "ends": "(base, figure)",
-    "figure_sum": "(base, number, rest)",
-    "every": "(base)",
+    kinds: {
+        "multiple": "(base, number)",
+        "rest": "(base, number, rest)",
+        "bears": "(base, figure)",
+        "ends": "(base, figure)",
+        "figure_sum": "(base, number, rest)",
+        "every": "(base)",
+    },
+    places: {
+        "place": "(rules, number)",
+        "direction": "(rules, number)",
+        "speaker": "(rules, people, number)",
+        "said": "(rules, number)",
+        "swing": "(rules, number)",
+    },
+    tallies: {
+        "spoken": "(rules, people, person, number)",
+        "spoken_by_all": "(rules, people, number)",
+        "words": "(rules, number)",
+        "turns": "(rules, number)",
+        "turn_of": "(rules, people, person, times)",
+    },
+    always: {
+        "first_when": "(rules, people, person, kind)",
+        "ever_speaks": "(rules, people, person)",
+        "silent": "(rules, people)",
+        "told_apart": "(rules, other)",
+        "wrong_from": "(rules, people, number)",
+        "wrong_place": "(rules, number, later)",
+    },
+    guesses: {
+        "people_for": "(rules, looks, most)",
+        "least_look": "(rules, counts, number)",
+    },
 }
 KIND = {
     "__and__": "(self, other)",
@@ -43,11 +71,12 @@ RULES = {
 
 class Interface(unittest.TestCase):
     def test_functions_stand_in_their_file(self):
-        for name, arguments in FUNCTIONS.items():
-            with self.subTest(name):
-                self.assertEqual(getattr(kinds, name).__module__, "buzzround.kinds")
-                self.assertEqual(getattr(kinds, name).__name__, name)
-                self.assertEqual(str(inspect.signature(getattr(kinds, name))), arguments)
+        for file, functions in FUNCTIONS.items():
+            for name, arguments in functions.items():
+                with self.subTest(file=file.__name__, name=name):
+                    function = getattr(file, name)
+                    self.assertEqual((function.__module__, function.__name__), (file.__name__, name))
+                    self.assertEqual(str(inspect.signature(function)), arguments)
 
     def test_methods_stand_in_their_class(self):
         for own, file, methods in ((Kind, kinds, KIND), (Rules, rules, RULES)):
@@ -68,6 +97,56 @@ class Interface(unittest.TestCase):
         self.assertEqual(told, (10, 21, 28, 1))
         lot = Rules(rows=((kind, ("turn",)),), base=10)
         self.assertEqual((lot.base(), lot.holding(number=14)), (10, [0]))
+
+    def test_arguments_of_a_round_by_name(self):
+        lot = Rules(10, ((kinds.multiple(10, 7), ("turn",)), (kinds.bears(10, 3), ("say", "b"))))
+        told = [
+            (places.place(number=9, rules=lot), places.place(lot, 9)),
+            (places.direction(number=9, rules=lot), places.direction(lot, 9)),
+            (places.speaker(number=9, people=5, rules=lot), places.speaker(lot, 5, 9)),
+            (places.said(number=9, rules=lot), places.said(lot, 9)),
+            (places.swing(number=9, rules=lot), places.swing(lot, 9)),
+            (tallies.spoken(number=9, person=2, people=5, rules=lot), tallies.spoken(lot, 5, 2, 9)),
+            (tallies.spoken_by_all(number=9, people=5, rules=lot), tallies.spoken_by_all(lot, 5, 9)),
+            (tallies.words(number=30, rules=lot), tallies.words(lot, 30)),
+            (tallies.turns(number=30, rules=lot), tallies.turns(lot, 30)),
+            (tallies.turn_of(times=3, person=2, people=5, rules=lot), tallies.turn_of(lot, 5, 2, 3)),
+        ]
+        for by_name, by_position in told:
+            self.assertEqual(by_name, by_position)
+
+    def test_arguments_about_all_numbers_by_name(self):
+        kind = kinds.multiple(10, 6)
+        lot = Rules(10, ((kinds.multiple(10, 7), ("turn",)), (kinds.bears(10, 3), ("say", "b"))))
+        told = [
+            (always.first_when(kind=kind, person=2, people=5, rules=lot), always.first_when(lot, 5, 2, kind)),
+            (always.ever_speaks(person=2, people=5, rules=lot), always.ever_speaks(lot, 5, 2)),
+            (always.silent(people=9, rules=lot), always.silent(lot, 9)),
+            (always.told_apart(other=Rules(10), rules=lot), always.told_apart(lot, Rules(10))),
+            (always.wrong_from(number=7, people=5, rules=lot), always.wrong_from(lot, 5, 7)),
+            (always.wrong_place(later=9, number=7, rules=lot), always.wrong_place(lot, 7, 9)),
+            (guesses.people_for(most=9, looks=[(7, 1)], rules=lot), guesses.people_for(lot, [(7, 1)], 9)),
+            (guesses.least_look(number=9, counts=[2, 3], rules=lot), guesses.least_look(lot, [2, 3], 9)),
+        ]
+        for by_name, by_position in told:
+            self.assertEqual(by_name, by_position)
+
+    def test_kinds_of_values_of_a_round(self):
+        kind = kinds.multiple(10, 6)
+        lot = Rules(10, ((kinds.multiple(10, 7), ("turn",)), (kinds.bears(10, 3), ("say", "b"))))
+        for value in (
+            places.place(lot, 9), places.direction(lot, 9), places.speaker(lot, 5, 9), *places.swing(lot, 9),
+            tallies.spoken(lot, 5, 2, 9), *tallies.spoken_by_all(lot, 5, 9), tallies.words(lot, 9),
+            tallies.turns(lot, 9), tallies.turn_of(lot, 5, 2, 3), always.first_when(lot, 5, 0, kind),
+            *always.silent(lot, 100), always.told_apart(lot, Rules(10)), always.wrong_from(lot, 5, 7),
+            always.wrong_place(lot, 7, 9), *guesses.people_for(lot, [(1, 0)], 9), guesses.least_look(lot, [2, 3], 9),
+        ):
+            self.assertIs(type(value), int)
+        self.assertIs(type(always.ever_speaks(lot, 5, 2)), bool)
+        self.assertEqual((type(places.said(lot, 3)), type(places.said(lot, 4))), (str, str))
+        self.assertIs(type(places.swing(lot, 9)), tuple)
+        for value in (tallies.spoken_by_all(lot, 5, 9), always.silent(lot, 5), guesses.people_for(lot, [], 9)):
+            self.assertIs(type(value), list)
 
     def test_kinds_of_values(self):
         kind = kinds.multiple(10, 7)

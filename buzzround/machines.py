@@ -104,7 +104,7 @@ def lots_of_states(steps, marks, most):
     lots = list(lots_by_marks(marks))
     members = list(members_of(lots))
     backs = [steps_back(steps, figure) for figure in range(len(steps[0]))]
-    waiting = all_but_a_widest(members)
+    waiting = list(all_but_a_widest(members))
     while waiting:
         targets = members[waiting.pop()]
         for back in backs:

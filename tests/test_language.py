@@ -55,7 +55,7 @@ class Language(unittest.TestCase):
 
 
 class Operators(unittest.TestCase):
-    """What operators, __eq__ and properties run calls nothing that an object may hold."""
+    """What operators, __eq__, __len__ and properties run changes nothing and calls nothing that an object may hold."""
 
     def test_the_package(self):
         found = list(trees(FILES))
@@ -75,6 +75,35 @@ class Operators(unittest.TestCase):
             self.assertEqual(calls_of_what_is_held([ast.parse(text)]), calls, name)
         text = told + "    @property\n    def wide(self):\n        return Box(self.seen.keys()).near()\n"
         self.assertEqual(calls_of_what_is_held([ast.parse(text)]), ["far: index"])
+
+    def test_the_package_changes_only_what_is_made_on_the_spot(self):
+        self.assertEqual(changes_by_operators(list(trees(FILES))), [])
+
+    def test_a_change_of_what_was_not_made_on_the_spot_is_found(self):
+        for line, found in (
+            ("waiting = made(rows); waiting.pop()", ["far: waiting"]),
+            ("waiting = made(rows); waiting[0] = 1", ["far: waiting"]),
+            ("waiting = made(rows); waiting[0] += 1", ["far: waiting"]),
+            ("waiting = list(made(rows)); waiting.pop(); waiting[0] = 1", []),
+            ("waiting = []; waiting = rows; waiting.append(1)", ["far: waiting"]),
+            ("waiting = [1]; waiting = waiting[1:]; waiting.append(1)", []),
+            ("rows.append(1)", ["far: rows"]),
+            ("rows.wide = 1", ["far: rows"]),
+            ("del rows[0]", ["far: rows"]),
+            ("for waiting in rows: waiting.append(1)", ["far: waiting"]),
+            ("(waiting, more) = ([], []); more.append(1)", ["far: more"]),
+            ("hit = {}; hit.setdefault(1, []).append(2); hit[3] = 4", []),
+            ("rows.setdefault(1, []).append(2)", ["far: rows"]),
+            ("lots = [[] for row in rows]; lots[0].append(1)", []),
+            ("lots = list(rows); lots[0].append(1)", ["far: lots"]),
+            ("lots = [row for row in rows]; lots[0][1] = 2", ["far: lots"]),
+            ("rows.kept[1].append(2)", ["far: rows"]),
+            ("Box(rows).kept.append(2)", ["far: ?"]),
+        ):
+            with self.subTest(line):
+                text = f"def far(rows):\n    {line}\nclass Box:\n    def __len__(self):\n        return far(self)\n"
+                self.assertEqual(changes_by_operators([ast.parse(text)]), found)
+                self.assertEqual(changes_by_operators([ast.parse(text.replace("__len__", "near"))]), [])
 
 
 def trees(paths):
@@ -132,6 +161,97 @@ def calls_of_what_is_held(found):
         f"{name}: {called}" for name in sorted(run_by_operators(found)) for node in named[name]
         for called, is_method in calls_in(node) if is_method and called in held
     ]
+
+
+# What changes the list, dict or set whose method it is.
+CHANGING = (
+    "append", "appendleft", "clear", "extend", "extendleft", "insert", "pop", "popleft", "remove", "reverse", "rotate",
+    "setdefault", "sort", "update", "add", "discard",
+)
+MADE_BY_CALL = ("list", "dict", "set", "sorted")
+
+
+def changes_by_operators(found):
+    """What operators, __eq__, __len__ and properties change although they did not make it on the spot."""
+    named = functions_by_name(found)
+    return [
+        f"{name}: {root}" for name in sorted(run_by_operators(found)) for node in named[name]
+        for root in changes_in(node)
+    ]
+
+
+def changes_in(function):
+    """The names of what a function changes, of those alone that it did not make itself."""
+    values = assigned_in(function)
+    for node in ast.walk(function):
+        for target in changed_by(node):
+            if isinstance(target, ast.Attribute) and function.name == "__init__" and name_of(target.value) == "self":
+                continue
+            held = target.value
+            if may_be_changed(held, values):
+                continue
+            while not isinstance(held, ast.Name) and hasattr(held, "value"):
+                held = held.value
+            yield name_of(held)
+
+
+def changed_by(node):
+    """The items, attributes and methods by which a node changes something."""
+    if isinstance(node, (ast.Subscript, ast.Attribute)) and isinstance(node.ctx, (ast.Store, ast.Del)):
+        yield node
+    if isinstance(node, ast.Call) and isinstance(node.func, ast.Attribute) and node.func.attr in CHANGING:
+        if isinstance(node.func.value, ast.Call):
+            # What setdefault(.., []) returns stands in what it was called of.
+            inner = node.func.value
+            if isinstance(inner.func, ast.Attribute) and inner.func.attr == "setdefault":
+                return
+        yield node.func
+
+
+def may_be_changed(held, values):
+    if isinstance(held, ast.Subscript):
+        made = values.get(name_of(held.value), [])
+        return bool(made) and all(holds_only_what_is_made(value) for value in made)
+    made = values.get(name_of(held), [])
+    return bool(made) and all(is_made(value) for value in made)
+
+
+def assigned_in(function):
+    """For each local variable what it is assigned, None where that is not told by a plain line."""
+    values = {one.arg: [None] for one in ast.walk(function) if isinstance(one, ast.arg)}
+    for node in ast.walk(function):
+        if isinstance(node, ast.Name) and isinstance(node.ctx, ast.Store):
+            values.setdefault(node.id, []).append(None)
+    for node in ast.walk(function):
+        if isinstance(node, ast.Assign):
+            for target in node.targets:
+                if isinstance(target, ast.Name):
+                    values[target.id].remove(None)
+                    values[target.id].append(node.value)
+    return values
+
+
+def is_made(value):
+    """Whether a value is a list, dict or set that is made where it stands."""
+    if isinstance(value, (ast.List, ast.Dict, ast.Set, ast.ListComp, ast.DictComp, ast.SetComp)):
+        return True
+    if isinstance(value, ast.Call) and isinstance(value.func, ast.Attribute):
+        return value.func.attr == "copy"
+    if isinstance(value, ast.BinOp) and isinstance(value.op, (ast.Add, ast.Mult)):
+        return is_made(value.left) or is_made(value.right)
+    if isinstance(value, ast.Subscript):
+        return isinstance(value.slice, ast.Slice)
+    return isinstance(value, ast.Call) and name_of(value.func) in MADE_BY_CALL
+
+
+def holds_only_what_is_made(value):
+    if isinstance(value, ast.ListComp):
+        return is_made(value.elt)
+    return isinstance(value, (ast.Dict, ast.List)) and not getattr(value, "elts", getattr(value, "values", None))
+
+
+def name_of(node):
+    return node.id if isinstance(node, ast.Name) else "?"
 
 
 if __name__ == "__main__":

@@ -2,10 +2,13 @@
 
 from buzzround.errors import (
     NoBase,
+    NoCount,
     NoCounts,
     NoDivisor,
     NoFigure,
     NoLater,
+    NoLevel,
+    NoLevels,
     NoLook,
     NoNumber,
     NoPeople,
@@ -19,6 +22,8 @@ GREATEST = 10 ** 40
 MOST_PEOPLE = 100
 # Guesses ask for more people, and for numbers that can be counted on to.
 MOST_GUESSED = 10000
+MOST_LEVELS = 140
+MOST_AT_ONCE = 200
 LETTERS = "abcdefghijklmnopqrstuvwxyz"
 
 
@@ -121,3 +126,18 @@ def check_counts(value):
         raise NoCounts(f"each count is an integer from 1 to {MOST_PEOPLE}")
     if len(set(value)) < len(value):
         raise NoCounts("the counts are unlike")
+
+
+def check_levels(value):
+    if not is_between(value, 1, MOST_LEVELS):
+        raise NoLevels(f"levels are an integer from 1 to {MOST_LEVELS}")
+
+
+def check_level(value):
+    if not is_whole(value) or value < 0:
+        raise NoLevel("a level is an integer from 0 on")
+
+
+def check_count(value):
+    if not is_between(value, 0, MOST_AT_ONCE):
+        raise NoCount(f"so many numbers are said at once: an integer from 0 to {MOST_AT_ONCE}")

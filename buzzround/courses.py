@@ -42,6 +42,12 @@ def words_of(effects):
     return [effect[1] for effect in effects if effect[0] == "say"]
 
 
+def said_with(effects, number):
+    """What is said for a number with these effects: words, or its decimal digits."""
+    found = words_of(effects)
+    return " ".join(found) if found else str(number)
+
+
 def chained(courses):
     """What happens over numbers side by side, of parts of which these courses tell."""
     sign, move, low, high, replaced, changed = 1, 0, 0, 0, 0, 0

@@ -1,7 +1,7 @@
 """Where the turn stands at a number, and who says it."""
 
 from buzzround.checks import check_number, check_people
-from buzzround.courses import words_of
+from buzzround.courses import said_with
 
 
 def place(rules, number):
@@ -26,8 +26,7 @@ def speaker(rules, people, number):
 def said(rules, number):
     """What is said for a number: words, or its decimal digits."""
     check_number(number)
-    found = words_of(rules.effects_at(number))
-    return " ".join(found) if found else str(number)
+    return said_with(rules.effects_at(number), number)
 
 
 def swing(rules, number):

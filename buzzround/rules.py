@@ -101,6 +101,10 @@ class Rules:
         """What happens over the numbers from 1 to this one, nothing if it is 0."""
         return self._courses.up_to(number)
 
+    def course_over(self, level, state):
+        """What happens over a stretch of numbers, as buzzround.levels tells of it."""
+        return self._courses.told(level, state)
+
     def ring_of(self, many):
         """The ring of so many people who count on by these rules."""
         # Of the rings just the last one is kept: they are great, and mostly one is asked for again and again.

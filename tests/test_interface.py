@@ -3,8 +3,10 @@
 import inspect
 import unittest
 
-from buzzround import always, guesses, kinds, places, rules, tallies
+from buzzround import always, desks, guesses, kinds, live, places, rules, tables, tallies, texts
+from buzzround.desks import Desk
 from buzzround.kinds import Kind
+from buzzround.live import Round
 from buzzround.rules import Rules
 
 FUNCTIONS = {
@@ -42,6 +44,22 @@ FUNCTIONS = {
         "people_for": "(rules, looks, most)",
         "least_look": "(rules, counts, number)",
     },
+    tables: {
+        "plain_machine": "(rules)",
+        "plain_marks": "(rules)",
+        "table": "(rules, levels)",
+        "is_table": "(rules, thing)",
+        "is_sign_paper": "(rules, thing)",
+        "place_by": "(machine, thing, number)",
+        "sign_at": "(thing, state, level)",
+        "sign_paper": "(rules)",
+    },
+    texts: {
+        "read_kind": "(base, text)",
+        "read_machine": "(text)",
+        "read_rules": "(text)",
+        "kind_text": "(kind)",
+    },
 }
 KIND = {
     "__and__": "(self, other)",
@@ -67,6 +85,23 @@ RULES = {
     "size": "(self)",
     "holding": "(self, number)",
 }
+ROUND = {
+    "__init__": "(self, rules, people)",
+    "__contains__": "(self, person)",
+    "__len__": "(self)",
+    "say": "(self)",
+    "say_many": "(self, count)",
+    "go_to": "(self, number)",
+    "err": "(self)",
+    "change": "(self, rules)",
+    "undo": "(self)",
+    "heard": "(self)",
+}
+PROPERTIES = ("number", "person", "place", "direction", "people", "rules")
+DESK = {
+    "__init__": "(self)",
+    "order": "(self, text)",
+}
 
 
 class Interface(unittest.TestCase):
@@ -79,11 +114,17 @@ class Interface(unittest.TestCase):
                     self.assertEqual(str(inspect.signature(function)), arguments)
 
     def test_methods_stand_in_their_class(self):
-        for own, file, methods in ((Kind, kinds, KIND), (Rules, rules, RULES)):
+        for own, file, methods in (
+            (Kind, kinds, KIND), (Rules, rules, RULES), (Round, live, ROUND), (Desk, desks, DESK),
+        ):
             self.assertEqual(own.__module__, file.__name__)
             for name, arguments in methods.items():
                 with self.subTest(own=own.__name__, name=name):
                     self.assertEqual(str(inspect.signature(vars(own)[name])), arguments)
+
+    def test_properties_stand_in_their_class(self):
+        for name in PROPERTIES:
+            self.assertIsInstance(vars(Round)[name], property)
 
     def test_arguments_by_name(self):
         self.assertEqual(kinds.multiple(number=7, base=10), kinds.multiple(10, 7))
@@ -127,6 +168,28 @@ class Interface(unittest.TestCase):
             (always.wrong_place(later=9, number=7, rules=lot), always.wrong_place(lot, 7, 9)),
             (guesses.people_for(most=9, looks=[(7, 1)], rules=lot), guesses.people_for(lot, [(7, 1)], 9)),
             (guesses.least_look(number=9, counts=[2, 3], rules=lot), guesses.least_look(lot, [2, 3], 9)),
+        ]
+        for by_name, by_position in told:
+            self.assertEqual(by_name, by_position)
+
+    def test_arguments_of_tables_by_name(self):
+        lot = Rules(10, ((kinds.multiple(10, 7), ("turn",)), (kinds.bears(10, 3), ("say", "b"))))
+        machine, thing = tables.plain_machine(rules=lot), tables.table(levels=5, rules=lot)
+        paper = tables.sign_paper(rules=lot)
+        told = [
+            (machine, tables.plain_machine(lot)),
+            (tables.plain_marks(rules=lot), tables.plain_marks(lot)),
+            (thing, tables.table(lot, 5)),
+            (tables.is_table(thing=thing, rules=lot), True),
+            (tables.place_by(number=777, thing=thing, machine=machine), places.place(lot, 777)),
+            (paper, tables.sign_paper(lot)),
+            (tables.is_sign_paper(thing=paper, rules=lot), True),
+            (tables.sign_at(level=7, state=3, thing=paper), tables.sign_at(paper, 3, 7)),
+            (texts.read_kind(text="multiple 7", base=10), kinds.multiple(10, 7)),
+            (texts.read_rules(text="base 10"), Rules(10)),
+            (texts.read_machine(text=texts.kind_text(kind=kinds.multiple(10, 7))), kinds.multiple(10, 7)),
+            (Round(people=5, rules=lot).people, 5),
+            (Desk().order(text="who 7"), "1 7"),
         ]
         for by_name, by_position in told:
             self.assertEqual(by_name, by_position)

@@ -60,7 +60,9 @@ class Operators(unittest.TestCase):
     def test_the_package(self):
         found = list(trees(FILES))
         self.assertEqual(calls_of_what_is_held(found), [])
-        self.assertLessEqual({"__and__", "__or__", "__xor__", "__eq__", "lots_of_states"}, run_by_operators(found))
+        names = {node.name for node in run_by_operators(found)}
+        for name in ("__and__", "__or__", "__xor__", "__eq__", "__contains__", "__len__", "person", "lots_of_states"):
+            self.assertIn(name, names)
 
     def test_a_call_by_the_name_of_an_attribute_is_found(self):
         told = (
@@ -75,6 +77,15 @@ class Operators(unittest.TestCase):
             self.assertEqual(calls_of_what_is_held([ast.parse(text)]), calls, name)
         text = told + "    @property\n    def wide(self):\n        return Box(self.seen.keys()).near()\n"
         self.assertEqual(calls_of_what_is_held([ast.parse(text)]), ["far: index"])
+
+    def test_names_of_properties_mean_nothing_else_of_an_object(self):
+        found = list(trees(FILES))
+        classes = [node for tree in found for node in ast.walk(tree) if isinstance(node, ast.ClassDef)]
+        methods = [node for own in classes for node in own.body if isinstance(node, ast.FunctionDef)]
+        properties = {node.name for node in methods if node.decorator_list}
+        self.assertEqual(properties, {"number", "person", "place", "direction", "people", "rules"})
+        self.assertEqual(properties & {node.name for node in methods if not node.decorator_list}, set())
+        self.assertEqual(properties & names_of_attributes(found), set())
 
     def test_the_package_changes_only_what_is_made_on_the_spot(self):
         self.assertEqual(changes_by_operators(list(trees(FILES))), [])
@@ -144,21 +155,24 @@ def calls_in(node):
 
 
 def run_by_operators(found):
-    """The names of all functions that operators, __eq__, __len__ and properties may run."""
+    """All functions that operators, __eq__, __len__ and properties may run, the first ones of these themselves."""
     named = functions_by_name(found)
-    waiting = [name for name in named if name[:2] == "__" and name != "__init__"]
-    for nodes in list(named.values()):
-        waiting.extend([node.name for node in nodes if node.decorator_list])
-    for name in waiting:
-        for node in named[name]:
-            waiting.extend({called for called, _ in calls_in(node) if called in named} - set(waiting))
-    return set(waiting)
+    nodes = [node for name in sorted(named) for node in named[name]]
+    waiting = [node for node in nodes if is_run_first(node)]
+    for node in waiting:
+        for name in sorted({called for called, _ in calls_in(node)}):
+            waiting.extend([behind for behind in named.get(name, []) if behind not in waiting])
+    return waiting
+
+
+def is_run_first(function):
+    return (function.name[:2] == "__" and function.name != "__init__") or bool(function.decorator_list)
 
 
 def calls_of_what_is_held(found):
-    named, held = functions_by_name(found), names_of_attributes(found)
+    held = names_of_attributes(found)
     return [
-        f"{name}: {called}" for name in sorted(run_by_operators(found)) for node in named[name]
+        f"{node.name}: {called}" for node in run_by_operators(found)
         for called, is_method in calls_in(node) if is_method and called in held
     ]
 
@@ -173,11 +187,7 @@ MADE_BY_CALL = ("list", "dict", "set", "sorted")
 
 def changes_by_operators(found):
     """What operators, __eq__, __len__ and properties change although they did not make it on the spot."""
-    named = functions_by_name(found)
-    return [
-        f"{name}: {root}" for name in sorted(run_by_operators(found)) for node in named[name]
-        for root in changes_in(node)
-    ]
+    return [f"{node.name}: {root}" for node in run_by_operators(found) for root in changes_in(node)]
 
 
 def changes_in(function):

@@ -20,12 +20,7 @@ def read_kind(base, text):
 
 def read_rules(text):
     """The rules of a text with the row of a base and a row for each of theirs."""
-    if not isinstance(text, str):
-        raise NoText(0)
-    lines = text.split("\n")
-    base = base_of(lines[0])
-    if base is None:
-        raise NoText(0)
+    lines, base = _lines_of(text)
     told = []
     for at in range(1, len(lines)):
         found = row_of(base, lines[at]) if at <= MOST_ROWS else None
@@ -50,17 +45,23 @@ def kind_text(kind):
 
 def read_machine(text):
     """The kind of which a text is the text of its least machine."""
+    lines, base = _lines_of(text)
+    steps, marks = _machine_of(base, lines)
+    found = least_machine(steps, marks, WIDEST)
+    if len(found[0]) < len(steps):
+        raise NoText(0)
+    return Kind(found[0], found[1])
+
+
+def _lines_of(text):
+    """The lines of a text, and the base that the first one tells."""
     if not isinstance(text, str):
         raise NoText(0)
     lines = text.split("\n")
     base = base_of(lines[0])
     if base is None:
         raise NoText(0)
-    steps, marks = _machine_of(base, lines)
-    found = least_machine(steps, marks, WIDEST)
-    if len(found[0]) < len(steps):
-        raise NoText(0)
-    return Kind(found[0], found[1])
+    return lines, base
 
 
 def _machine_of(base, lines):

@@ -40,8 +40,8 @@ NO_EXPRESSIONS = (
     "name", "( a and every )", "not a", "( every and b )", "every : turn", "multiple 7 : say buzz", "base 10",
     "every and", "not every and every", "multiple 99999999999999999999999999999999",
     "rest 7 99999999999999999999999999999999", "bears 99999999999999999999999999999999", "[ every and every ]", "0",
-    "7", "multiple 7 or", "( multiple 7 or bears 7", "multiple ( every and every )", "sum 2 ( every or every )", "+",
-    "-",
+    "7", "multiple 7 or", "and 7 1", "or 7 1", "xor 2 0", "and every every", "not 7 1", "every 7 1", "rest 7 every",
+    "bears every", "( multiple 7 or bears 7", "multiple ( every and every )", "sum 2 ( every or every )", "+", "-",
 )
 
 
